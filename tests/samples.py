@@ -1,0 +1,76 @@
+"""Values of many kinds that the tests pass."""
+
+from collections import namedtuple
+
+
+class Thing:
+    """An object of no kind that the program knows."""
+
+
+class Sly:
+    """An object that claims to be equal to everything, to be an index and a pair of integers."""
+
+    def __eq__(self, other):
+        return True
+
+    __hash__ = None
+
+    def __index__(self):
+        return 1
+
+    def __int__(self):
+        return 1
+
+    def __len__(self):
+        return 2
+
+    def __getitem__(self, at):
+        return (1, 2)[at]
+
+
+class Wild:
+    """An object that fails whatever it is asked."""
+
+    def __eq__(self, other):
+        raise RuntimeError("compared")
+
+    __hash__ = None
+
+    def __bool__(self):
+        raise RuntimeError("tested")
+
+    def __len__(self):
+        raise RuntimeError("measured")
+
+    def __repr__(self):
+        raise RuntimeError("shown")
+
+
+class Count(int):
+    """A kind of int: its objects are INTEGERs."""
+
+
+Pair = namedtuple("Pair", "p q")
+
+HUGE = 10 ** 30 + 57
+VAST = 7 ** 4000
+
+NO_INTEGERS = [
+    True, False, None, "", "1", "12", b"", b"1", [], [1], (), (1,), (1, 2), (True,), {}, {1: 2}, {1}, frozenset([1]),
+    range(3), int, bool, len, Thing, Thing(), Sly(), Wild(), NotImplemented, ..., ValueError("1"),
+]
+INTEGERS = [0, 1, -1, 2, -7, 255, 256, 257, HUGE, -HUGE, VAST, -VAST, Count(5), Count(0)]
+
+RATIOS = [
+    (0, 1), (1, 1), (-1, 1), (1, 2), (-1, 2), (3, 2), (-3, 2), (5, 1), (-5, 1), (HUGE, 1), (1, HUGE), (-1, HUGE),
+    (HUGE, HUGE + 1), (-HUGE, HUGE + 1), (VAST, VAST + 1), Pair(2, 3), (Count(3), Count(4)),
+]
+NO_RATIOS = NO_INTEGERS[:12] + [
+    (0, 2), (0, 0), (0, -1), (1, 0), (-1, 0), (1, -1), (1, -2), (-1, -2), (2, 2), (2, 4), (-2, 4), (6, 3), (4, -6),
+    (HUGE, HUGE), (2 * HUGE, 4), (3 * HUGE, HUGE * HUGE), (VAST, 7), (1,), (1, 2, 3), (1, 1, 1), (0, 1, 0),
+    (True, 1), (1, True), (True, True), (False, 1), (True, 2), (2, True), (False, True), (0, True),
+    [1, 2], [0, 1], [1, 1], ([1, 2],), ((1, 2),), ((1, 2), (1, 3)), ([1], 2), (1, [2]), ((1,), 2), (1, (2,)),
+    ("1", 2), (1, "2"), ("1", "2"), (None, 1), (1, None), (None, None), (b"1", 1), ({}, 1), (1, {}), (Thing(), 1),
+    (1, Thing()), (Sly(), 1), (1, Sly()), (Wild(), 1), (1, Wild()), Pair(2, 4), Pair(1, True), "12", b"12",
+    {1: 2, 3: 4}, {0: 1, 1: 2}, {1, 2}, frozenset([1, 2]), range(1, 3), Thing(), Sly(), Wild(), 0, 1, HUGE, Thing, tuple, int,
+]

@@ -1,0 +1,1 @@
+"""Threeswaps: moves of all integers, and how few exchanges make them."""
