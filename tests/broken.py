@@ -34,6 +34,26 @@ BROKEN = {
         "class A:\n    X = 1 + 1",
         "class A(ValueError):\n    def told(self):\n        return 1",
         "class A:\n    @property\n    def n(self):\n        self.k = 1\n        return 1",
+        "class A:\n    @property\n    def n(self):\n        return g(self)\n\n\ndef g(a):\n    a.k = 1",
+        "class A:\n    @property\n    def n(self):\n        return g([])\n\n\ndef g(xs):\n    xs.append(1)",
+        "class A:\n    def __mul__(self, other):\n        return self.h()\n\n    def h(self):\n        self.k = 1",
+        "class A:\n    def __mul__(self, other):\n        return B(other)\n\n\nclass B:\n    def __init__(self, a):\n"
+        "        a.k = 1",
+        "class A:\n    def __add__(self, other):\n        return other(self)",
+        "class A:\n    def __neg__(self):\n        return [f(self) for f in (1, 2)]",
+        "class A:\n    def __str__(self):\n        return str(g([1]))\n\n\ndef g(xs):\n    ys = xs\n    ys[0] = 2\n"
+        "    return ys",
+        "class A:\n    def __init__(self):\n        self.xs = []\n\n    @property\n    def n(self):\n"
+        "        return self.xs.pop()",
+        "class A:\n    @property\n    def n(self):\n        return g(2)\n\n\ndef g(k):\n    k += k\n    return k",
+        "class A:\n    @property\n    def n(self):\n        return 1\n\n\nclass B:\n    def n(self):\n        return 1",
+        "class A:\n    @classmethod\n    def n(cls):\n        return 1\n\n\nclass B:\n    def n(self):\n        return 1",
+        "class A:\n    N = 1\n\n\nclass B:\n    def N(self):\n        return 1",
+        "class A:\n    N = 1\n\n\nclass B:\n    def __init__(self):\n        self.N = 1",
+        "class A:\n    @property\n    def title(self):\n        return 1\n\n    @property\n    def index(self):\n"
+        "        return 1",
+        "class A:\n    def __init__(self):\n        super().__init__(1)",
+        "class A:\n    def f(self):\n        return super().g()",
     ],
     "L6": [
         "async def f():\n    pass",
@@ -119,6 +139,7 @@ BROKEN = {
         "class A(StopIteration):\n    pass",
         "class A:\n    def f(self):\n        return 1\n\n    def f(self):\n        return 2",
         "class A:\n    def f(self):\n        self.f = 1",
+        "class A:\n    def f(self):\n        return 1\n\n\nclass B:\n    def __init__(self):\n        self.f = 1",
         "def f(x):\n    return x.never",
         "class A:\n    pass\n\n\ndef f():\n    A.n = 1",
         "def f(x):\n    return isinstance(ValueError, x)",

@@ -1,5 +1,7 @@
 """Values of many kinds that the tests pass."""
 
+import itertools
+import random
 from collections import namedtuple
 
 
@@ -74,3 +76,36 @@ NO_RATIOS = NO_INTEGERS[:12] + [
     (1, Thing()), (Sly(), 1), (1, Sly()), (Wild(), 1), (1, Wild()), Pair(2, 4), Pair(1, True), "12", b"12",
     {1: 2, 3: 4}, {0: 1, 1: 2}, {1, 2}, frozenset([1, 2]), range(1, 3), Thing(), Sly(), Wild(), 0, 1, HUGE, Thing, tuple, int,
 ]
+
+FAR = 10 ** 61 + 7
+PLACES = [*range(-13, 14), FAR, FAR + 1, FAR + 2, -FAR, -FAR - 1, 3 * FAR + 5, -7 * FAR]
+
+NO_LISTS = [value for value in NO_INTEGERS if not isinstance(value, (list, tuple))] + [
+    [], (), 0, 1, 3, HUGE, "[0]", "abc", {0: 0}, {0: 1, 1: -1}, {0}, range(1), iter([0]), (n for n in [0]), "0",
+]
+
+
+def is_table(offsets):
+    """Whether the offsets bring one thing to each place, as a search tells."""
+    many = len(offsets)
+    return sorted((at + offset) % many for at, offset in enumerate(offsets)) == list(range(many))
+
+
+def all_tables(period, most):
+    """All tables of plans with so many offsets from -most to most."""
+    return [list(offsets) for offsets in itertools.product(range(-most, most + 1), repeat=period) if is_table(offsets)]
+
+
+def mixed_table(period, reach, seed):
+    """A table with so many offsets that reach far up and down, another one for each seed."""
+    chance = random.Random(seed)
+    goals = list(range(period))
+    chance.shuffle(goals)
+    return [goal - at + period * chance.randint(-reach, reach) for at, goal in enumerate(goals)]
+
+
+SMALL_TABLES = all_tables(1, 4) + all_tables(2, 3) + all_tables(3, 2)
+TABLES = SMALL_TABLES[::3] + [
+    [3, 1, -4], [4, 1, 7, 0], [2, -2, 6, -6], [1, 1, -2], [1, 1, 1, -3], [0, 6, 0, 2], [6, -6, 2, 0, -2, 6],
+    [HUGE], [-HUGE], [2 * HUGE, -2 * HUGE], [3 * HUGE + 1, 1, -2 - 6 * HUGE],
+] + [mixed_table(period, reach, period + reach) for period in (4, 5, 6, 7, 8, 9, 12) for reach in (0, 1, 2, HUGE)]

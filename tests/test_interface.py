@@ -11,21 +11,95 @@ FUNCTIONS = {
         "is_ratio": "(value)", "ratio": "(numerator, denominator=1)", "ratio_sum": "(*ratios)",
         "ratio_product": "(*ratios)", "compare_ratios": "(left, right)", "sorted_ratios": "(ratios)",
     },
+    "plans": {"product": "(*plans)"},
+    "cuts": {
+        "up": "(plan, cut)", "down": "(plan, cut)", "carried_up": "(plan, cut, most=100)",
+        "carried_down": "(plan, cut, most=100)", "delay": "(plan)", "delayed": "(plan)", "holds": "(plan)",
+    },
 }
 
+# Each class: its base class, its own parameters, class values, class methods, properties, methods, generators.
+CLASSES = {
+    "plans": {
+        "Move": {"base": object, "values": {"MAX_PERIOD": 2520}},
+        "Plan": {
+            "base": "Move", "parameters": "(offsets)", "values": {"SIGN": 1},
+            "class methods": {"identity": "()", "shift": "(n)", "swapping": "(period, *pairs)"},
+            "properties": ["period", "flow"],
+            "methods": {
+                "offsets": "(self)", "at": "(self, x)", "__call__": "(self, x)", "back": "(self, x)",
+                "inverse": "(self)", "then": "(self, other)", "power": "(self, n)", "renamed": "(self, by)",
+                "__mul__": "(self, other)", "__eq__": "(self, other)", "__len__": "(self)", "__str__": "(self)",
+                "__repr__": "(self)",
+            },
+        },
+    },
+    "tracks": {
+        "Tracks": {
+            "base": object, "parameters": "(plan)", "properties": ["up", "down"],
+            "methods": {
+                "cycles": "(self)", "address": "(self, x)", "place": "(self, address)", "after": "(self, x, n)",
+                "steps": "(self, x, y)", "on_one_track": "(self, x, y)", "speed": "(self, x)", "length": "(self, x)",
+                "rank": "(self, x)", "lines": "(self, speed)", "base": "(self, speed, rank)",
+                "round_base": "(self, length, rank)", "count_in": "(self, x, first, last)",
+            },
+            "generators": {"walk": "(self, x, n)", "places_in": "(self, x, first, last)"},
+        },
+    },
+}
+ROWS = [(file, name, told) for file, classes in CLASSES.items() for name, told in classes.items()]
 
-class Interface(unittest.TestCase):
+
+def module(file):
+    """The module of a file of the package."""
+    return importlib.import_module("threeswaps." + file)
+
+
+class Functions(unittest.TestCase):
 
     def test_functions_stand_in_their_files_with_their_parameters(self):
         for file, functions in FUNCTIONS.items():
-            module = importlib.import_module("threeswaps." + file)
             for name, parameters in functions.items():
                 with self.subTest(name):
-                    function = getattr(module, name)
+                    function = getattr(module(file), name)
                     self.assertTrue(inspect.isfunction(function))
                     self.assertEqual(function.__module__, "threeswaps." + file)
                     self.assertEqual(function.__name__, name)
                     self.assertEqual(str(inspect.signature(function)), parameters)
+
+
+class Classes(unittest.TestCase):
+
+    def test_classes_stand_in_their_files(self):
+        for file, name, told in ROWS:
+            with self.subTest(name):
+                kind = getattr(module(file), name)
+                self.assertTrue(inspect.isclass(kind))
+                self.assertEqual(kind.__module__, "threeswaps." + file)
+                base = told["base"]
+                if isinstance(base, str):
+                    self.assertEqual([above.__name__ for above in kind.__bases__], [base])
+                else:
+                    self.assertEqual(kind.__bases__, (base,))
+                if "parameters" in told:
+                    self.assertEqual(str(inspect.signature(kind)), told["parameters"])
+
+    def test_what_is_listed_stands_in_the_class_itself(self):
+        for file, name, told in ROWS:
+            own = vars(getattr(module(file), name))
+            with self.subTest(name):
+                for word, value in told.get("values", {}).items():
+                    self.assertEqual((own[word], own[word].__class__), (value, value.__class__))
+                for word in told.get("properties", ()):
+                    self.assertIsInstance(own[word], property)
+                for word, parameters in told.get("class methods", {}).items():
+                    self.assertIsInstance(own[word], classmethod)
+                    self.assertEqual(str(inspect.signature(getattr(getattr(module(file), name), word))), parameters)
+                methods = {**told.get("methods", {}), **told.get("generators", {})}
+                for word, parameters in methods.items():
+                    self.assertTrue(inspect.isfunction(own[word]))
+                    self.assertEqual(str(inspect.signature(own[word])), parameters)
+                    self.assertEqual(inspect.isgeneratorfunction(own[word]), word in told.get("generators", {}))
 
 
 if __name__ == "__main__":

@@ -10,6 +10,11 @@ def is_integer(value):
     return isinstance(value, int) and not isinstance(value, bool)
 
 
+def is_pair(value):
+    """Whether the value is a tuple of two INTEGERs."""
+    return isinstance(value, tuple) and len(value) == 2 and is_integer(value[0]) and is_integer(value[1])
+
+
 def check_integer(value, least=None):
     """Raise InvalidInteger(value) unless the value is an INTEGER, and not below least if that is given."""
     if not is_integer(value) or (least is not None and value < least):

@@ -3,17 +3,12 @@
 from math import gcd
 
 from threeswaps.errors import InvalidRatio
-from threeswaps.integers import check_integer, is_integer
+from threeswaps.integers import check_integer, is_pair
 
 
 def is_ratio(value):
     """Whether the value is a RATIO."""
-    if not isinstance(value, tuple) or len(value) != 2:
-        return False
-    numerator, denominator = value
-    if not is_integer(numerator) or not is_integer(denominator):
-        return False
-    return denominator >= 1 and gcd(numerator, denominator) == 1
+    return is_pair(value) and value[1] >= 1 and gcd(value[0], value[1]) == 1
 
 
 def ratio(numerator, denominator=1):
@@ -62,11 +57,16 @@ def sorted_ratios(ratios):
     return sorted(ratios, key=lambda value: value[0] * scale // value[1])
 
 
+def check_ratio(value):
+    """Raise InvalidRatio(value) unless the value is a RATIO."""
+    if not is_ratio(value):
+        raise InvalidRatio(value)
+
+
 def _check_ratios(values):
     """Raise InvalidRatio for the first of the values that is no RATIO."""
     for value in values:
-        if not is_ratio(value):
-            raise InvalidRatio(value)
+        check_ratio(value)
 
 
 def _lowest(numerator, denominator):

@@ -5,12 +5,12 @@ finally, sort, bytes, annotations, heaps ..), the check forbids it altogether. C
 a thing extends the check first.
 """
 
-from rules import calls, classes, expressions, files, imports, layout, names, statements, words
+from rules import calls, classes, expressions, files, imports, layout, names, quiet, statements, words
 from rules.source import Package
 
 CHECKS = (
     files.check, words.check, imports.check, layout.check, names.check,
-    classes.check, statements.check, expressions.check, calls.check,
+    classes.check, quiet.check, statements.check, expressions.check, calls.check,
 )
 
 

@@ -2,7 +2,7 @@
 
 import ast
 
-from rules.source import ERRORS, FUNCTIONS, decorators, is_dunder, is_text
+from rules.source import ERRORS, FUNCTIONS, bound_names, decorators, is_dunder, is_text
 
 PLAIN = ("__init__", "__eq__", "__repr__", "__str__", "__len__", "__call__")
 OPERATORS = (
@@ -33,9 +33,11 @@ def check(package):
             yield from _body(package, file, node)
             yield from _twice(file, node)
             yield from _names(package, file, node)
+            yield from _words_of_one_meaning(package, file, node)
         for node in file.of(*FUNCTIONS):
             yield from _function(file, node)
         yield from _uses(package, file)
+        yield from _supers(package, file)
 
 
 def _head(package, file, node):
@@ -99,6 +101,46 @@ def _names(package, file, node):
         if isinstance(row, ast.FunctionDef) and not is_dunder(row.name):
             if row.name not in METHODS_ALSO and _is_of_values(row.name):
                 yield file.fault("L26", row, f"the method {row.name} is one of Python's own values")
+
+
+def _words_of_one_meaning(package, file, node):
+    """Class values, properties, static and class methods have names that mean nothing else in any class."""
+    for row in node.body:
+        if isinstance(row, ast.Assign):
+            for word in bound_names(row):
+                if word in package.methods or word in package.attributes or word in package.classes:
+                    yield file.fault("L5", row, f"the class value {word} is something else, too")
+        elif isinstance(row, ast.FunctionDef) and not is_dunder(row.name):
+            kinds = {_kind(method) for method in package.methods[row.name]}
+            if len(kinds) > 1 or (_kind(row) != "method" and row.name in METHODS_ALSO):
+                yield file.fault("L5", row, f"the name {row.name} means several things")
+            # The rules allow this under conditions, which the package does without.
+            if row.name in package.attributes:
+                yield file.fault("L18", row, f"{row.name} is a method and an attribute")
+
+
+def _kind(method):
+    """What a method is: a property (with its setter), a static or class method, or a plain method."""
+    if any(isinstance(word, ast.Attribute) and word.attr == "setter" for word in method.decorator_list):
+        return "property"
+    return "".join(decorators(method)) or "method"
+
+
+def _supers(package, file):
+    """super() calls the constructor above, and passes arguments only to one that the package defines."""
+    for node in file.of(ast.Call):
+        if not (isinstance(node.func, ast.Name) and node.func.id == "super"):
+            continue
+        outer, function = file.parent(node), file.function_of(node)
+        home = file.class_of(function) if function is not None else None
+        call = file.parent(outer)
+        if home is None or function.name != "__init__" or getattr(outer, "attr", None) != "__init__":
+            yield file.fault("L5", node, "super() that does not stand as super().__init__(..) in an __init__")
+        elif call.args or call.keywords:
+            above = [row.name for base in package.bases(home.name) if base in package.classes
+                     for row in package.classes[base].body if isinstance(row, ast.FunctionDef)]
+            if "__init__" not in above:
+                yield file.fault("L5", node, "super().__init__ with arguments, but no class above has one")
 
 
 def _is_of_values(word):

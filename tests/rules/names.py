@@ -73,7 +73,8 @@ def _binding(file, name, node, kind):
     main = file.is_main and kind == "import" and name == "sys"
     if name in NOT_FOR_NAMES and not main:
         yield file.fault("L17", node, f"the name {name}")
-    if hasattr(builtins, name) and (kind != "method" or name in FREE):
+    # doctest keeps its last value as a builtin called _.
+    if name != "_" and hasattr(builtins, name) and (kind != "method" or name in FREE):
         yield file.fault("L15", node, f"{name} is the name of a builtin")
 
 
