@@ -16,6 +16,9 @@ FUNCTIONS = {
         "up": "(plan, cut)", "down": "(plan, cut)", "carried_up": "(plan, cut, most=100)",
         "carried_down": "(plan, cut, most=100)", "delay": "(plan)", "delayed": "(plan)", "holds": "(plan)",
     },
+    "streams": {"deliveries": "(plan, items, *, gap=None)"},
+    "profiles": {"profile_sum": "(lines, rounds)"},
+    "renamings": {"alike": "(one, other)", "renaming_fault": "(one, other, by)", "shortest": "(plan)"},
 }
 
 # Each class: its base class, its own parameters, class values, class methods, properties, methods, generators.
@@ -46,6 +49,32 @@ CLASSES = {
             "generators": {"walk": "(self, x, n)", "places_in": "(self, x, first, last)"},
         },
     },
+    "streams": {
+        "Stream": {
+            "base": object, "parameters": "(plan, *, gap=None)", "properties": ["moment", "waiting"],
+            "methods": {"push": "(self, item)"}, "generators": {"rest": "(self)"},
+        },
+    },
+    "profiles": {
+        "Profile": {
+            "base": object, "parameters": "(lines, rounds)",
+            "class methods": {"of": "(plan)", "identity": "()"},
+            "properties": ["flow", "least_period"],
+            "methods": {
+                "lines": "(self)", "rounds": "(self)", "speeds": "(self)", "lengths": "(self)",
+                "lines_of": "(self, speed)", "density": "(self, length)", "power": "(self, n)", "opposite": "(self)",
+                "plan": "(self)", "first_difference": "(self, other)", "__eq__": "(self, other)", "__str__": "(self)",
+            },
+        },
+    },
+    "rules": {
+        "Rule": {
+            "base": object, "properties": ["period"],
+            "methods": {"at": "(self, x)", "__call__": "(self, x)", "back": "(self, x)"},
+        },
+        "PlainRule": {"base": "Rule", "methods": {"plan": "(self)"}},
+    },
+    "renamings": {"Renaming": {"base": "PlainRule", "parameters": "(one, other)"}},
 }
 ROWS = [(file, name, told) for file, classes in CLASSES.items() for name, told in classes.items()]
 
