@@ -273,6 +273,7 @@ class Equality(Case):
             for other in itertools.permutations(rounds):
                 profile = Profile({key: lines[key] for key in one}, {key: rounds[key] for key in other})
                 self.assertIs(profile == MIXED, True)
+                self.assertEqual(profile, Profile(rounds=profile.rounds(), lines=profile.lines()))
                 self.assertIs(profile != MIXED, False)
                 self.same([str(profile), profile.speeds(), profile.lengths()],
                           ["-3/2:1, 6:1, (1):1/18, (2):1/18", [(-3, 2), (6, 1)], [1, 2]])
