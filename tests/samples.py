@@ -109,3 +109,33 @@ TABLES = SMALL_TABLES[::3] + [
     [3, 1, -4], [4, 1, 7, 0], [2, -2, 6, -6], [1, 1, -2], [1, 1, 1, -3], [0, 6, 0, 2], [6, -6, 2, 0, -2, 6],
     [HUGE], [-HUGE], [2 * HUGE, -2 * HUGE], [3 * HUGE + 1, 1, -2 - 6 * HUGE],
 ] + [mixed_table(period, reach, period + reach) for period in (4, 5, 6, 7, 8, 9, 12) for reach in (0, 1, 2, HUGE)]
+
+
+def still_table(table):
+    """A table of flow 0, made of another one by another first offset."""
+    return [table[0] - sum(table), *table[1:]]
+
+
+# Several lines and cycles of one speed, both directions, and rounds of two lengths with several cycles.
+CROWD = [12, 24, -12, 13, 11, -12, 1, -1, 0, 1, -1, 0]
+# Lines of two speeds up and of one speed down, several cycles of each; rounds of four lengths beside them.
+STREETS = [36, 36, 36, 72, 72, 72, 1, 1, -110, 1, 1, -110, 1, 1, -110, 1, -1, 1, 1, -2, 1, -1, 0, 0, 0, 0, 1, 1, 1, -3,
+           1, -1, 0, 1, -1, 0]
+# Plans of flow 0: as many lines go up as down.
+STILL_TABLES = [still_table(table) for table in TABLES + [CROWD] if len(table) > 1] + [
+    STREETS, [0, 4, -4], [5, -1, -4], [4, -4, 5, -5], [20, 20, 1, -21, -20, 0, 0, 1, 1, -2], [5, 5, 6, -1, -15],
+    [6 * HUGE, 3 * HUGE, -9 * HUGE],
+]
+# Plans without lines, with rounds of one or several lengths.
+CLOSED_TABLES = [
+    [0], [1, -1], [3, -3], [1, 1, -2], [4, 1, -5], [1, -1, 0], [1, 1, 1, -3], [1, 1, 1, 1, 1, -5], [2, 2, -2, -2],
+    [1, -1, 1, 1, -2], [1, -1, 1, 1, -2, 0, 0], [1, 1, 1, -3, 1, 1, 1, 1, 1, -5], [6 * HUGE + 1, -1 - 6 * HUGE, 0],
+    [1, 1, 1, 1, -4, 1, 1, -2, 1, -1], [1, 1, 1, 1, 1, 1, 1, 1, -8, 1, 1, 1, 1, 1, -5], [2, 2, 2, 2, -4, -4],
+    [1, -1, 1, -1, 0, 0, 0], [1, 1, -2, 1, 1, -2, 1, 1, -2, 0],
+]
+
+
+def mirror_table(table, around=1):
+    """The table of a mirror: it turns the places round, and then moves them as the table of a plan does."""
+    many = len(table)
+    return [around + table[(around - at) % many] for at in range(many)]

@@ -19,6 +19,14 @@ FUNCTIONS = {
     "streams": {"deliveries": "(plan, items, *, gap=None)"},
     "profiles": {"profile_sum": "(lines, rounds)"},
     "renamings": {"alike": "(one, other)", "renaming_fault": "(one, other, by)", "shortest": "(plan)"},
+    "roots": {
+        "root_bound": "(plan)", "is_root": "(plan, k, by)", "order": "(plan)", "exponent": "(one, other)",
+    },
+    "swaps": {
+        "fewest_swaps": "(plan)", "unpaired": "(plan)", "swap_factors": "(plan)", "fewest_closed": "(plan)",
+        "closed_factors": "(plan)", "is_factoring": "(plan, factors, *, closed=False)",
+    },
+    "mirrors": {"moves_product": "(*moves)", "move_power": "(move, n)", "mirrored": "(plan)"},
 }
 
 # Each class: its base class, its own parameters, class values, class methods, properties, methods, generators.
@@ -75,6 +83,22 @@ CLASSES = {
         "PlainRule": {"base": "Rule", "methods": {"plan": "(self)"}},
     },
     "renamings": {"Renaming": {"base": "PlainRule", "parameters": "(one, other)"}},
+    "roots": {"Root": {"base": "PlainRule", "parameters": "(plan, k)"}},
+    "swaps": {
+        "Swap": {"base": "PlainRule"},
+        "ClosedRule": {"base": "PlainRule", "methods": {"length_at": "(self, x)"}},
+    },
+    "mirrors": {
+        "Mirror": {
+            "base": "Move", "parameters": "(offsets)", "values": {"SIGN": -1},
+            "class methods": {"around": "(n)"}, "properties": ["period"],
+            "methods": {
+                "offsets": "(self)", "at": "(self, x)", "__call__": "(self, x)", "back": "(self, x)",
+                "inverse": "(self)", "__eq__": "(self, other)", "__len__": "(self)", "__str__": "(self)",
+                "__repr__": "(self)",
+            },
+        },
+    },
 }
 ROWS = [(file, name, told) for file, classes in CLASSES.items() for name, told in classes.items()]
 

@@ -8,14 +8,13 @@ from threeswaps.profiles import Profile
 from threeswaps.renamings import Renaming, alike, renaming_fault, shortest
 from threeswaps.rules import PlainRule, Rule
 from cases import Case
-from samples import FAR, HUGE, NO_INTEGERS, PLACES, SMALL_TABLES, TABLES, Count, mixed_table
+from samples import CROWD, FAR, HUGE, NO_INTEGERS, PLACES, SMALL_TABLES, TABLES, Count, mixed_table
 
 PLANS = [Plan(offsets) for offsets in TABLES]
 FAN, SLIDE, TWIN = Plan([3, 1, -4]), Plan([2, -2]), Plan([4, 1, 7, 0])
 NAMES = [Plan.swapping(2, (0, 1)), Plan(mixed_table(2, HUGE, 5)), Plan(mixed_table(4, HUGE, 9)),
          Plan(mixed_table(3, 2, 4))]
-# Lines of both directions, several cycles of one speed, and rounds of two lengths with several cycles.
-CROWD = Plan([12, 24, -12, 13, 11, -12, 1, -1, 0, 1, -1, 0])
+CROWDED = Plan(CROWD)
 
 
 def pairs():
@@ -25,8 +24,8 @@ def pairs():
         yield plan, Profile.of(plan).plan()
         yield plan.renamed(NAMES[number % 3]), plan.renamed(Plan.shift(1))
     for by in NAMES:
-        yield CROWD.renamed(by), CROWD
-    yield CROWD, CROWD
+        yield CROWDED.renamed(by), CROWDED
+    yield CROWDED, CROWDED
     yield Plan([6, 6, 6, 6]), Plan.shift(6)
 
 
@@ -106,7 +105,7 @@ class Renamings(Case):
                 rule.back(x)
                 found[number].append(rule.at(x))
         self.same(found, expected)
-        again = Renaming(CROWD, CROWD.renamed(NAMES[0]))
+        again = Renaming(CROWDED, CROWDED.renamed(NAMES[0]))
         self.same([again.at(x) for x in PLACES], [again.at(x) for x in PLACES])
 
     def test_no_integers(self):
@@ -210,7 +209,7 @@ class Faults(Case):
 class Shortest(Case):
 
     def test_the_least_period_and_the_profile(self):
-        for plan in PLANS + [Plan(offsets) for offsets in SMALL_TABLES] + [CROWD]:
+        for plan in PLANS + [Plan(offsets) for offsets in SMALL_TABLES] + [CROWDED]:
             found = shortest(plan)
             self.assertEqual((found.__class__, len(found)), (tuple, 2))
             least, rule = found

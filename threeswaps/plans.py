@@ -18,12 +18,8 @@ class Plan(Move):
     SIGN = 1
 
     def __init__(self, offsets):
-        if not isinstance(offsets, (list, tuple)) or len(offsets) == 0:
-            raise InvalidTable("table", None, None)
-        check_period(len(offsets))
-        check_offsets(offsets)
-        self._offsets = least_table(offsets)
-        self._returns = returning_table(self._offsets)
+        self._offsets = checked_table(offsets, self.SIGN)
+        self._returns = returning_table(self._offsets, self.SIGN)
 
     @classmethod
     def identity(cls):
@@ -60,7 +56,7 @@ class Plan(Move):
     def at(self, x):
         """The place to which x is moved."""
         check_integer(x)
-        return moved(self._offsets, x)
+        return moved(self._offsets, self.SIGN, x)
 
     def __call__(self, x):
         return self.at(x)
@@ -68,7 +64,7 @@ class Plan(Move):
     def back(self, x):
         """The place that is moved to x."""
         check_integer(x)
-        return moved(self._returns, x)
+        return moved(self._returns, self.SIGN, x)
 
     def inverse(self):
         """The plan that moves each place back."""
@@ -113,6 +109,15 @@ def check_period(period):
         raise TooLong(period)
 
 
+def checked_table(offsets, sign):
+    """The offsets at the period of the move with this table and this sign; errors if it is none."""
+    if not isinstance(offsets, (list, tuple)) or len(offsets) == 0:
+        raise InvalidTable("table", None, None)
+    check_period(len(offsets))
+    check_offsets(offsets, sign)
+    return least_table(offsets)
+
+
 def product(*plans):
     """The plan that does all the plans, one after another."""
     tables = [plan.offsets() for plan in plans]
@@ -127,5 +132,5 @@ def _moved_by_all(tables, x):
     """The place to which the tables, one after another, move x."""
     place = x
     for table in tables:
-        place = moved(table, place)
+        place = moved(table, Plan.SIGN, place)
     return place

@@ -36,3 +36,11 @@ class PlainRule(Rule):
         """The plan that moves all places like the rule."""
         check_period(self.period)
         return Plan([self.at(x) - x for x in range(self.period)])
+
+
+def moved_by(moves, x):
+    """The place to which the moves, one after another, move x."""
+    place = x
+    for move in moves:
+        place = move.at(place)
+    return place

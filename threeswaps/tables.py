@@ -1,17 +1,20 @@
-"""Tables: lists of the offsets that a plan adds to the places of each remainder."""
+"""Tables: lists of the offsets that a move adds to the places of each remainder.
+
+The sign is 1 for a plan, which moves x to x + u, and -1 for a mirror, which moves x to -x + u.
+"""
 
 from threeswaps.errors import InvalidPair, InvalidTable
 from threeswaps.integers import is_integer, is_pair
 
 
-def check_offsets(offsets):
-    """Raise InvalidTable unless the items of a list that is not empty are the offsets of a plan."""
+def check_offsets(offsets, sign):
+    """Raise InvalidTable unless the items of a list that is not empty are the offsets of a move with this sign."""
     for position, offset in enumerate(offsets):
         if not is_integer(offset):
             raise InvalidTable("integer", position, None)
     reached = {}
-    for position, offset in enumerate(offsets):
-        remainder = (position + offset) % len(offsets)
+    for position in range(len(offsets)):
+        remainder = moved(offsets, sign, position) % len(offsets)
         if remainder in reached:
             raise InvalidTable("meeting", position, reached[remainder])
         reached[remainder] = position
@@ -27,11 +30,11 @@ def least_table(offsets):
     return table[:periods[0]]
 
 
-def returning_table(offsets):
-    """The table of the plan that moves each place back."""
+def returning_table(offsets, sign):
+    """The table of the move with the same sign that moves each place back."""
     table = [0] * len(offsets)
     for remainder, offset in enumerate(offsets):
-        table[(remainder + offset) % len(offsets)] = -offset
+        table[moved(offsets, sign, remainder) % len(offsets)] = -sign * offset
     return table
 
 
@@ -53,9 +56,9 @@ def swapping_table(period, pairs):
     return table
 
 
-def moved(offsets, x):
-    """The place to which the table of these offsets moves x."""
-    return x + offsets[x % len(offsets)]
+def moved(offsets, sign, x):
+    """The place to which the move with these offsets and this sign moves x."""
+    return sign * x + offsets[x % len(offsets)]
 
 
 def table_text(offsets):
