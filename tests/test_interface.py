@@ -27,7 +27,14 @@ FUNCTIONS = {
         "closed_factors": "(plan)", "is_factoring": "(plan, factors, *, closed=False)",
     },
     "mirrors": {"moves_product": "(*moves)", "move_power": "(move, n)", "mirrored": "(plan)"},
+    "turns": {"mirror_factors": "(plan)", "turn_factors": "(move)"},
+    "meetings": {"meetings": "(one, x, other, y)", "first_meeting": "(one, x, other, y)"},
+    "formulas": {
+        "is_formula": "(value)", "formula_text": "(formula)", "names_in": "(formula)", "read_formula": "(text)",
+        "evaluate": "(formula, plans)",
+    },
 }
+GENERATORS = {"meetings": {"meetings_in": "(one, x, other, y, first, last)"}}
 
 # Each class: its base class, its own parameters, class values, class methods, properties, methods, generators.
 CLASSES = {
@@ -99,6 +106,20 @@ CLASSES = {
             },
         },
     },
+    "turns": {
+        "MirrorRule": {"base": "Rule", "methods": {"mirror": "(self)"}},
+        "MirrorRenaming": {"base": "MirrorRule", "parameters": "(one, other)"},
+    },
+    "desk": {
+        "Desk": {
+            "base": object, "parameters": "(**plans)", "values": {"MAX_CHANGES": 20}, "properties": ["changes"],
+            "methods": {
+                "names": "(self)", "plan": "(self, name)", "__len__": "(self)", "__contains__": "(self, x)",
+                "let": "(self, name, text)", "drop": "(self, name)", "undo": "(self)", "ask": "(self, line)",
+                "run": "(self, lines)", "rows": "(self)",
+            },
+        },
+    },
 }
 ROWS = [(file, name, told) for file, classes in CLASSES.items() for name, told in classes.items()]
 
@@ -111,14 +132,16 @@ def module(file):
 class Functions(unittest.TestCase):
 
     def test_functions_stand_in_their_files_with_their_parameters(self):
-        for file, functions in FUNCTIONS.items():
-            for name, parameters in functions.items():
-                with self.subTest(name):
-                    function = getattr(module(file), name)
-                    self.assertTrue(inspect.isfunction(function))
-                    self.assertEqual(function.__module__, "threeswaps." + file)
-                    self.assertEqual(function.__name__, name)
-                    self.assertEqual(str(inspect.signature(function)), parameters)
+        for told in (FUNCTIONS, GENERATORS):
+            for file, functions in told.items():
+                for name, parameters in functions.items():
+                    with self.subTest(name):
+                        function = getattr(module(file), name)
+                        self.assertTrue(inspect.isfunction(function))
+                        self.assertEqual(inspect.isgeneratorfunction(function), told is GENERATORS)
+                        self.assertEqual(function.__module__, "threeswaps." + file)
+                        self.assertEqual(function.__name__, name)
+                        self.assertEqual(str(inspect.signature(function)), parameters)
 
 
 class Classes(unittest.TestCase):

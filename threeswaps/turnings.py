@@ -1,11 +1,13 @@
-"""Turnings: moves of the places of a plan that are their own inverses, by the seats of the places."""
+"""Turnings: moves of all places that are their own inverses, and turn a plan or a mirror into what can be undone."""
 
 from threeswaps.couples import Couples, strides
+from threeswaps.mirrors import moves_product
 from threeswaps.seats import Seats, opposite_speed
+from threeswaps.tracks import Tracks
 
 
 class Turning:
-    """The base class of the turnings. A class of turnings defines _turned(seat), the seat to which a seat is moved."""
+    """The base class of the turnings of plans. Such a class defines _turned(seat), to which a seat is moved."""
 
     def __init__(self, plan):
         self._seats = Seats(plan)
@@ -30,6 +32,20 @@ class Opposing(Turning):
         if kind == "line":
             return (kind, opposite_speed(key), rank, -index)
         return (kind, key, rank, -index)
+
+
+class Reversing(Turning):
+    """Turns round the indexes of each line and each round, and the ranks of the rounds.
+
+    It turns the plan into its inverse. It is a mirror rule: a shift raises the indexes of a line, and the ranks of the
+    rounds, by as much as the opposite shift lowers them.
+    """
+
+    def _turned(self, seat):
+        kind, key, rank, index = seat
+        if kind == "line":
+            return (kind, key, rank, -index)
+        return (kind, key, -rank, -index)
 
 
 class Crossing(Turning):
@@ -84,3 +100,26 @@ class Unwinding(Turning):
         stride, _ = strides(key, other)
         at = index % stride
         return (kind, key, rank, index - at + (stride - 1 - at))
+
+
+class Facing:
+    """The turning that turns a mirror into its inverse. A shift that keeps the lines and lanes is carried through.
+
+    The plan that does the mirror twice has tracks that the mirror moves to each other. It leads lines to lines of the
+    opposite speed, and keeps indexes but for an amount that all places of a track share. So a line is exchanged with
+    the one to which the mirror moves it, and a round is turned round in itself; the sum of the indexes of what is
+    exchanged is 0 for lines, and for rounds what makes up for the amount by which the mirror raises them.
+    """
+
+    def __init__(self, mirror):
+        self._mirror = mirror
+        self._tracks = Tracks(moves_product(mirror, mirror))
+
+    def at(self, x):
+        """The place to which x is moved."""
+        y = self._mirror.at(x)
+        start = y if self._tracks.length(x) is None else x
+        return self._tracks.after(start, -self._index(x) - self._index(y))
+
+    def _index(self, x):
+        return self._tracks.address(x)[3]
