@@ -41,7 +41,8 @@ TEXTS = [
 ]
 
 NO_FORMULAS = NO_INTEGERS + [
-    0, 1, "f", "name", ("name",), ("f",), ("name", "f", "g"), ["name", "f"], ("name", ""), ("name", "abcdefghi"),
+    0, 1, "f", "name", ("name",), ("f",), ("sum", (F, G)), ("f", (F, G)),
+    ("products", (F, G)), ("tables", (0,)), ("powers", F, 2), ("table", (F, G)), ("product", (0, 1)), ("name", "f", "g"), ["name", "f"], ("name", ""), ("name", "abcdefghi"),
     ("name", "F"), ("name", "a1"), ("name", "a b"), ("name", "a_"), ("name", b"f"), ("name", None), ("name", ("f",)),
     ("name", 1), ("name", ["f"]), ("Name", "f"), ("names", "f"), (b"name", "f"), ("", "f"), (None, "f"), (1, "f"),
     ("table", ()), ("table", [0]), ("table", 0), ("table", "0"), ("table", None), ("table",), ("table", (0,), 1),

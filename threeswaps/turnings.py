@@ -1,4 +1,7 @@
-"""Turnings: moves of all places that are their own inverses, and turn a plan or a mirror into what can be undone."""
+"""Turnings: moves of all places that are their own inverses, by the tracks of a plan or a mirror.
+
+If a turning t turns a move f into its inverse, f followed by t is its own inverse, too, and f is the product of both.
+"""
 
 from threeswaps.couples import Couples, strides
 from threeswaps.mirrors import moves_product
@@ -103,12 +106,12 @@ class Unwinding(Turning):
 
 
 class Facing:
-    """The turning that turns a mirror into its inverse. A shift that keeps the lines and lanes is carried through.
+    """Turns a mirror into its inverse, by the tracks of the plan that does the mirror twice.
 
-    The plan that does the mirror twice has tracks that the mirror moves to each other. It leads lines to lines of the
-    opposite speed, and keeps indexes but for an amount that all places of a track share. So a line is exchanged with
-    the one to which the mirror moves it, and a round is turned round in itself; the sum of the indexes of what is
-    exchanged is 0 for lines, and for rounds what makes up for the amount by which the mirror raises them.
+    The mirror moves these tracks to each other, a line to one of the opposite speed, and raises the indexes of a track
+    by one amount. Let it move x to y. On a line, x is moved to the line of y, to the negative of its own index; on a
+    round, it stays on its round and is moved to the negative of the index of y. So it is a plain rule: a shift leads
+    lines to themselves, and raises the indexes of one line where it lowers those of the other.
     """
 
     def __init__(self, mirror):
